@@ -1,0 +1,1 @@
+"""One text where several texts are meant, decided for all values."""
