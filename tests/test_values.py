@@ -11,7 +11,7 @@ from tests.samples import LARGE_VALUES, LETTERS, NO_VALUES, has_twice, nested, s
 
 VALUES = small_values() + LARGE_VALUES
 
-# The last one of each is built from the value "ab" at the place ().
+# None of these is a place of the text "ab", whose places are (), (0,) and (1,).
 NO_PLACES = [
     None, True, False, 0, 1, -1, 10 ** 29, "", "0", "ab", [], [0], [()], (-1,), (2,), (10 ** 29,), (-10 ** 29,),
     (True,), (False,), (None,), ("0",), ("a",), ((0,),), ([0],), ((),), (0, 0), (0, 0, 0), (1, 0), (0, True),
