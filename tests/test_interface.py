@@ -1,0 +1,74 @@
+"""The interface: what it lists stands in its file, with its arguments, and methods in their own classes."""
+
+import inspect
+import unittest
+
+from textorlist import entries, programs, runs, shapes, values
+
+FUNCTIONS = {
+    values: {
+        "check_value": "(thing)", "is_value": "(thing)", "kind_of": "(value)", "size_of": "(value)", "depth_of": "(value)",
+        "items_of": "(value)", "places_of": "(value)", "part_of": "(value, place)", "is_torn": "(value, place)",
+        "wrapped": "(value, place)",
+    },
+    runs: {
+        "run": "(program, value, *, key='', name=None)", "trace": "(program, value, *, key='', name=None)",
+        "first_parting": "(program, one, other, *, key='', name=None)",
+    },
+}
+CLASSES = {
+    (entries, "Entries"): {
+        "of": "(*values)", "set_entry": "(self, at, value)", "listed": "(self)", "packed": "(self)", "joined": "(self, between)",
+        "flat": "(self)", "__init__": "(self, value)",
+    },
+    (shapes, "Shape"): {
+        "every": "()", "never": "()", "nothing": "()", "texts": "(least=0, most=None)", "lists": "(shape)", "nested": "(shape)",
+        "least": "(self)", "least_beyond": "(self, other)", "within": "(self, other)",
+    },
+    (programs, "Program"): {
+        "__init__": "(self, text)", "names": "(self)", "takers": "(self)", "spots": "(self)", "marked": "(self, mend)",
+    },
+    (runs, "Run"): {"entries": "(self, taker)", "meets": "(self, bad)"},
+}
+OPERATORS = {
+    (entries, "Entries"): "add radd iadd mul rmul len bool contains getitem setitem iter eq repr",
+    (shapes, "Shape"): "or and sub invert ior iand contains eq bool",
+    (programs, "Program"): "len str eq",
+    (runs, "Run"): "bool",
+}
+
+
+class Interface(unittest.TestCase):
+    def test_functions(self):
+        for module, functions in FUNCTIONS.items():
+            for name, arguments in functions.items():
+                function = getattr(module, name)
+                self.assertEqual(function.__module__, module.__name__)
+                self.assertEqual(str(inspect.signature(function)), arguments, name)
+
+    def test_methods(self):
+        for (module, name), methods in CLASSES.items():
+            owner = getattr(module, name)
+            self.assertEqual(owner.__module__, module.__name__)
+            for method, arguments in methods.items():
+                self.assertIn(method, vars(owner))
+                self.assertEqual(str(inspect.signature(getattr(owner, method))), arguments, method)
+
+    def test_operators(self):
+        for (module, name), operators in OPERATORS.items():
+            for operator in operators.split():
+                self.assertIn(f"__{operator}__", vars(getattr(module, name)))
+
+    def test_attributes(self):
+        program = programs.Program("def f(v):\n  return")
+        self.assertEqual(program.main, "f")
+        given = runs.run(program, None)
+        self.assertEqual((given.way, given.line, given.fates, given.handed), ("end", None, [], []))
+
+    def test_generators(self):
+        self.assertTrue(inspect.isgeneratorfunction(runs.trace))
+        self.assertTrue(inspect.isgeneratorfunction(entries.Entries.flat))
+
+
+if __name__ == "__main__":
+    unittest.main()

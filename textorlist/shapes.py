@@ -1,0 +1,85 @@
+"""Shapes: sets of values of any depth and size."""
+
+from textorlist.recipes import answers_for, first_step, least_value, step_above, step_over_both
+from textorlist.values import is_value
+from textorlist.walks import copy_of
+
+
+class Shape:
+    """A set of values, made by the class methods and by operators."""
+
+    LETTERS = 3
+
+    def __init__(self, recipe):
+        self._recipe = recipe
+
+    @classmethod
+    def every(cls):
+        """All values."""
+        return cls(first_step("every", ()))
+
+    @classmethod
+    def never(cls):
+        """No values."""
+        return cls(first_step("never", ()))
+
+    @classmethod
+    def nothing(cls):
+        """Nothing alone."""
+        return cls(first_step("nothing", ()))
+
+    @classmethod
+    def texts(cls, least=0, most=None):
+        """All texts of at least so many letters and, unless most is None, at most so many."""
+        return cls(first_step("texts", (least, most)))
+
+    @classmethod
+    def lists(cls, shape):
+        """All lists whose items all are in a shape."""
+        return cls(step_above("lists", shape._recipe))
+
+    @classmethod
+    def nested(cls, shape):
+        """The values of a shape, and all lists of such values, at any depth."""
+        return cls(step_above("nested", shape._recipe))
+
+    def __or__(self, other):
+        return Shape(step_over_both("either", self._recipe, other._recipe))
+
+    def __and__(self, other):
+        return Shape(step_over_both("both", self._recipe, other._recipe))
+
+    def __sub__(self, other):
+        return Shape(step_over_both("minus", self._recipe, other._recipe))
+
+    def __invert__(self):
+        return Shape(step_above("outside", self._recipe))
+
+    def __ior__(self, other):
+        self._recipe = step_over_both("either", self._recipe, other._recipe)
+        return self
+
+    def __iand__(self, other):
+        self._recipe = step_over_both("both", self._recipe, other._recipe)
+        return self
+
+    def __contains__(self, x):
+        return is_value(x) and answers_for(self._recipe, x)[-1]
+
+    def __eq__(self, other):
+        return isinstance(other, Shape) and not least_value(step_over_both("differ", self._recipe, other._recipe))
+
+    def __bool__(self):
+        return bool(least_value(self._recipe))
+
+    def least(self):
+        """A tuple with a least value, or () if there is none."""
+        return copy_of(least_value(self._recipe))
+
+    def least_beyond(self, other):
+        """A tuple with a least value that is in this shape and not in the other one, or ()."""
+        return copy_of(least_value(step_over_both("minus", self._recipe, other._recipe)))
+
+    def within(self, other):
+        """Whether all values of this shape are in the other one."""
+        return not least_value(step_over_both("minus", self._recipe, other._recipe))
