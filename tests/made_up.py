@@ -1,5 +1,8 @@
 """Programs, values and keys that are made up from numbers of a generator with a fixed seed."""
 
+from textorlist.errors import TooMany
+from textorlist.programs import Program
+
 NAMES = ["f", "g", "both", "main"]
 VARIABLES = ["v", "w", "x", "y"]
 TAKERS = ["out", "log", "t"]
@@ -88,6 +91,17 @@ def program(rng):
         maker.put(0, f"def {name}({v}):")
         maker.block(1, v, list(known), name, False)
     return "\n".join(maker.lines)
+
+
+def right_program(rng):
+    """The text of a program that has not too many spots."""
+    while True:
+        text = program(rng)
+        try:
+            Program(text)
+        except TooMany:
+            continue
+        return text
 
 
 def value(rng, depth=0):

@@ -3,7 +3,7 @@
 import inspect
 import unittest
 
-from textorlist import entries, programs, runs, shapes, values
+from textorlist import baskets, conducts, entries, looker, programs, runs, shapes, values
 
 FUNCTIONS = {
     values: {
@@ -14,6 +14,17 @@ FUNCTIONS = {
     runs: {
         "run": "(program, value, *, key='', name=None)", "trace": "(program, value, *, key='', name=None)",
         "first_parting": "(program, one, other, *, key='', name=None)",
+    },
+    baskets: {"perform": "(program, value, *, key='', **uses)", "filled": "(basket, step)"},
+    conducts: {
+        "table": "(program, shape, *, bad=('slip', 'endless'), key='')",
+        "table_of_pairs": "(one, other, shape, *, key='', excused=False)",
+        "same_conduct": "(program, shape, one, other, *, bad=('slip', 'endless'), key='')",
+        "same_pair_conduct": "(one, other, shape, pair, beside, *, key='', excused=False)",
+    },
+    looker: {
+        "is_table": "(thing, program, shape, *, bad=('slip', 'endless'), key='')",
+        "is_table_of_pairs": "(thing, one, other, shape, *, key='', excused=False)",
     },
 }
 CLASSES = {
@@ -29,12 +40,18 @@ CLASSES = {
         "__init__": "(self, text)", "names": "(self)", "takers": "(self)", "spots": "(self)", "marked": "(self, mend)",
     },
     (runs, "Run"): {"entries": "(self, taker)", "meets": "(self, bad)"},
+    (baskets, "Basket"): {
+        "__init__": "(self, *names)", "fill": "(self, program, value, *, key='')", "entries": "(self, name)", "names": "(self)",
+    },
+    (baskets, "Trial"): {"__init__": "(self, basket)"},
 }
 OPERATORS = {
     (entries, "Entries"): "add radd iadd mul rmul len bool contains getitem setitem iter eq repr",
     (shapes, "Shape"): "or and sub invert ior iand contains eq bool",
     (programs, "Program"): "len str eq",
     (runs, "Run"): "bool",
+    (baskets, "Basket"): "len",
+    (baskets, "Trial"): "enter exit",
 }
 
 

@@ -66,7 +66,7 @@ class Course:
         self.frames = []
         self.way = "end"
         self.line = None
-        self.met = []
+        self.befallen = []
         self.gifts = []
         self.executed = []
 
@@ -112,8 +112,8 @@ class Course:
 
     def meet(self, kind, line):
         """Keeps a fate if it is met for the first time."""
-        if (kind, line.number) not in self.met:
-            self.met.append((kind, line.number))
+        if (kind, line.number) not in self.befallen:
+            self.befallen.append((kind, line.number))
 
     def stop(self, way, line):
         """Ends the run at a line."""

@@ -56,13 +56,13 @@ class Run:
     def __init__(self, course):
         self.way = course.way
         self.line = course.line
-        self._met = course.met
+        self._befallen = course.befallen
         self._gifts = course.gifts
 
     @property
     def fates(self):
         """A list of the fates that were met, (kind, line)."""
-        return list(self._met)
+        return list(self._befallen)
 
     @property
     def handed(self):
@@ -79,4 +79,4 @@ class Run:
     def meets(self, bad):
         """Whether a fate was met that is bad."""
         check_bad(bad)
-        return has_bad(self._met, bad)
+        return has_bad(self._befallen, bad)

@@ -11,7 +11,7 @@ class Shape:
     LETTERS = 3
 
     def __init__(self, recipe):
-        self._recipe = recipe
+        self.recipe = recipe
 
     @classmethod
     def every(cls):
@@ -36,50 +36,50 @@ class Shape:
     @classmethod
     def lists(cls, shape):
         """All lists whose items all are in a shape."""
-        return cls(step_above("lists", shape._recipe))
+        return cls(step_above("lists", shape.recipe))
 
     @classmethod
     def nested(cls, shape):
         """The values of a shape, and all lists of such values, at any depth."""
-        return cls(step_above("nested", shape._recipe))
+        return cls(step_above("nested", shape.recipe))
 
     def __or__(self, other):
-        return Shape(step_over_both("either", self._recipe, other._recipe))
+        return Shape(step_over_both("either", self.recipe, other.recipe))
 
     def __and__(self, other):
-        return Shape(step_over_both("both", self._recipe, other._recipe))
+        return Shape(step_over_both("both", self.recipe, other.recipe))
 
     def __sub__(self, other):
-        return Shape(step_over_both("minus", self._recipe, other._recipe))
+        return Shape(step_over_both("minus", self.recipe, other.recipe))
 
     def __invert__(self):
-        return Shape(step_above("outside", self._recipe))
+        return Shape(step_above("outside", self.recipe))
 
     def __ior__(self, other):
-        self._recipe = step_over_both("either", self._recipe, other._recipe)
+        self.recipe = step_over_both("either", self.recipe, other.recipe)
         return self
 
     def __iand__(self, other):
-        self._recipe = step_over_both("both", self._recipe, other._recipe)
+        self.recipe = step_over_both("both", self.recipe, other.recipe)
         return self
 
     def __contains__(self, x):
-        return is_value(x) and answers_for(self._recipe, x)[-1]
+        return is_value(x) and answers_for(self.recipe, x)[-1]
 
     def __eq__(self, other):
-        return isinstance(other, Shape) and not least_value(step_over_both("differ", self._recipe, other._recipe))
+        return isinstance(other, Shape) and not least_value(step_over_both("differ", self.recipe, other.recipe))
 
     def __bool__(self):
-        return bool(least_value(self._recipe))
+        return bool(least_value(self.recipe))
 
     def least(self):
         """A tuple with a least value, or () if there is none."""
-        return copy_of(least_value(self._recipe))
+        return copy_of(least_value(self.recipe))
 
     def least_beyond(self, other):
         """A tuple with a least value that is in this shape and not in the other one, or ()."""
-        return copy_of(least_value(step_over_both("minus", self._recipe, other._recipe)))
+        return copy_of(least_value(step_over_both("minus", self.recipe, other.recipe)))
 
     def within(self, other):
         """Whether all values of this shape are in the other one."""
-        return not least_value(step_over_both("minus", self._recipe, other._recipe))
+        return not least_value(step_over_both("minus", self.recipe, other.recipe))
