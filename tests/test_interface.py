@@ -3,7 +3,7 @@
 import inspect
 import unittest
 
-from textorlist import baskets, conducts, entries, looker, programs, runs, shapes, values
+from textorlist import baskets, comparing, conducts, entries, judging, looker, mends, programs, runs, shapes, twins, values
 
 FUNCTIONS = {
     values: {
@@ -26,6 +26,13 @@ FUNCTIONS = {
         "is_table": "(thing, program, shape, *, bad=('slip', 'endless'), key='')",
         "is_table_of_pairs": "(thing, one, other, shape, *, key='', excused=False)",
     },
+    judging: {
+        "judge": "(program, shape, *, bad=('slip', 'endless'), key='')", "survey": "(program, shape, *, key='')",
+        "survey_page": "(found)", "bears": "(program, shape, *, bad=('slip', 'endless'), key='', name=None)",
+        "greatest": "(program, shapes, *, bad=('slip', 'endless'), key='', name=None)",
+    },
+    comparing: {"compare": "(one, other, shape, *, key='', excused=False)"},
+    mends: {"least_mends": "(program, shape, *, key='')"},
 }
 CLASSES = {
     (entries, "Entries"): {
@@ -44,6 +51,7 @@ CLASSES = {
         "__init__": "(self, *names)", "fill": "(self, program, value, *, key='')", "entries": "(self, name)", "names": "(self)",
     },
     (baskets, "Trial"): {"__init__": "(self, basket)"},
+    (twins, "Twins"): {"__init__": "(self, program, *, key='', name=None)", "counted": "(self, text)"},
 }
 OPERATORS = {
     (entries, "Entries"): "add radd iadd mul rmul len bool contains getitem setitem iter eq repr",
@@ -52,6 +60,10 @@ OPERATORS = {
     (runs, "Run"): "bool",
     (baskets, "Basket"): "len",
     (baskets, "Trial"): "enter exit",
+    (judging, "Verdict"): "bool len",
+    (twins, "Twins"): "bool",
+    (comparing, "Comparison"): "bool",
+    (mends, "Mends"): "bool",
 }
 
 
@@ -81,6 +93,18 @@ class Interface(unittest.TestCase):
         self.assertEqual(program.main, "f")
         given = runs.run(program, None)
         self.assertEqual((given.way, given.line, given.fates, given.handed), ("end", None, [], []))
+        every = shapes.Shape.every()
+        verdict = judging.judge(program, every)
+        self.assertEqual((type(verdict.table), verdict.met), (tuple, None))
+        told = comparing.compare(program, program, every)
+        self.assertEqual((type(told.table), told.apart), (tuple, None))
+        self.assertEqual(twins.Twins(program).parting, ())
+        found = mends.least_mends(program, every)
+        self.assertEqual((found.sets, found.bad), ([()], {}))
+
+    def test_classes_of_what_is_returned(self):
+        for module, name in [(judging, "Verdict"), (comparing, "Comparison"), (mends, "Mends"), (twins, "Twins"), (runs, "Run")]:
+            self.assertEqual(getattr(module, name).__module__, module.__name__)
 
     def test_generators(self):
         self.assertTrue(inspect.isgeneratorfunction(runs.trace))

@@ -23,6 +23,11 @@ def outcomes_with(outcomes, node):
     return told + [outcomes.of_block(line, node, line.deed == "def") for line in blocks]
 
 
+def hands_over_alike(one, other):
+    """Whether the outcomes of two functions are runs that are alike at the marked place."""
+    return one[0] == other[0] and (one[0] in OVER or one[2:] == other[2:])
+
+
 class Teller:
     """Tells the conducts of values apart for a program, or of pairs for two, with a shape and a key."""
 
@@ -77,3 +82,11 @@ class Teller:
         for more in fates:
             met = met | more
         return (self.traits.told(node), ends, tuple([*fates, *[0] * (len(told) - len(fates))]), gifts, met)
+
+    def is_in_shape(self, node):
+        """Whether a value that was told is in the shape."""
+        return self.traits.is_in_shape(node)
+
+    def outcome(self, number, name, node):
+        """The outcome of a function of one of the programs with a value."""
+        return self.outcomes[number].of_function(name, node)
