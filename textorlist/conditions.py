@@ -5,13 +5,40 @@ the answer; "not" turns it round; "and" and "or" go on at the step with the
 number more, behind their right sides, if the answer is settled by the left one.
 """
 
-from textorlist.tokens import NUMBERS
+from textorlist.tokens import FORMS
 
-KINDS = ("text", "list", "nothing")
+# The atoms in a test, by their shapes, but for those with `len`.
+ATOMS = {
+    "text V": ("kind", "text"),
+    "list V": ("kind", "list"),
+    "nothing V": ("kind", "nothing"),
+    "V": ("full", None),
+    "key = V": ("key is", None),
+    "key in V": ("key in", "plain"),
+    "key in W": ("key in", "wrap"),
+    "key in M": ("key in", "many"),
+    "key in S": ("key in", "some"),
+}
 SIGNS = ("=", "!=", "<", "<=", ">", ">=")
+NUMBERS = {"0": 0, "1": 1, "2": 2, "3": 3}
 
 # How tightly the operators bind; a bracket waits for its end, whatever comes.
 RANKS = {"(": 0, "or": 1, "and": 2, "not": 3}
+
+
+def atom_of(words):
+    """The step for an atom, given by the words of its shape; None if there is no such atom."""
+    if len(words) == 4 and words[0] == "len" and words[1] in FORMS and words[2] in SIGNS and words[3] in NUMBERS:
+        return ("len", (FORMS[words[1]], words[2], NUMBERS[words[3]]))
+    return ATOMS.get(" ".join(words))
+
+
+def asked_form(step):
+    """The form of the E of a step, None if it has none."""
+    word, more = step
+    if word == "key in":
+        return more
+    return more[0] if word == "len" else None
 
 
 def settle(code, waiting, rank):
@@ -24,75 +51,56 @@ def settle(code, waiting, rank):
             code[at] = (word, len(code))
 
 
-def read_openers(reader, waiting):
-    """Goes on to the next atom."""
-    word = reader.taken_from(("not", "("))
-    while word is not None:
-        waiting.append((word, None))
-        word = reader.taken_from(("not", "("))
+def put_atom(code, words):
+    """Puts the step for an atom behind the code; whether there is such an atom."""
+    step = atom_of(words)
+    if step is not None:
+        code.append(step)
+    return step is not None
 
 
-def read_closers(reader, code, waiting):
-    """Goes on behind the brackets that end here; whether all of them have begun."""
-    while reader.takes([")"]):
-        settle(code, waiting, RANKS["or"])
-        if not waiting:
-            return False
-        waiting.pop()
+def put_operator(code, waiting, word):
+    """Takes up what comes behind an operand: `and`, `or`, the end of a bracket or of all; whether that may come."""
+    settle(code, waiting, RANKS.get(word, RANKS["or"]))
+    if word == ":":
+        return not waiting
+    if word == ")":
+        if waiting:
+            waiting.pop()
+            return True
+        return False
+    waiting.append((word, len(code)))
+    code.append(None)
     return True
 
 
-def read_length(reader):
-    """The rest of an atom that begins with `len`, or None if it is wrong."""
-    form = reader.given()
-    sign = reader.taken_from(SIGNS)
-    number = reader.taken_from(NUMBERS)
-    if form is None or sign is None or number is None:
-        return None
-    return ("len", (form, sign, int(number)))
-
-
-def read_atom(reader):
-    """The step for the atom that comes next, or None if none does."""
-    for kind in KINDS:
-        if reader.takes([kind, reader.variable]):
-            return ("kind", kind)
-    if reader.takes([reader.variable]):
-        return ("full", None)
-    if reader.takes(["key", "=", reader.variable]):
-        return ("key is", None)
-    if reader.takes(["key", "in"]):
-        form = reader.given()
-        return None if form is None else ("key in", form)
-    return read_length(reader) if reader.takes(["len"]) else None
-
-
-def read_operand(reader, code, waiting):
-    """Goes on behind an atom, what is ahead of it and the brackets that it ends; whether that is right."""
-    read_openers(reader, waiting)
-    atom = read_atom(reader)
-    if atom is None:
-        return False
-    code.append(atom)
-    return read_closers(reader, code, waiting)
-
-
-def read_test(reader):
-    """The code of the TEST that comes next, or None if none does."""
-    code = []
-    waiting = []
-    if not read_operand(reader, code, waiting):
-        return None
-    word = reader.taken_from(("and", "or"))
-    while word is not None:
-        settle(code, waiting, RANKS[word])
-        waiting.append((word, len(code)))
-        code.append(None)
-        if not read_operand(reader, code, waiting):
+def read_compound(words):
+    """The code of a TEST of more than one atom, with the colon behind it; None if it is wrong."""
+    code, waiting, atom, ended = [], [], [], False
+    for word in words:
+        if word in ("not", "("):
+            if atom or ended:
+                return None
+            waiting.append((word, None))
+        elif word in ("and", "or", ")", ":"):
+            if not ended and not put_atom(code, atom):
+                return None
+            atom, ended = [], word == ")"
+            if not put_operator(code, waiting, word):
+                return None
+        elif ended:
             return None
-        word = reader.taken_from(("and", "or"))
-    settle(code, waiting, RANKS["or"])
-    return None if waiting else code
+        else:
+            atom.append(word)
+    return code
+
+
+def read_test(words):
+    """The code of a TEST, given by the words of its shape with the colon behind it; None if it is wrong."""
+    if words[-1:] != [":"] or words.count(":") > 1:
+        return None
+    step = atom_of(words[:-1])
+    return read_compound(words) if step is None else [step]
 
 
 def compares(one, sign, other):

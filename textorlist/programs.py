@@ -1,15 +1,22 @@
 """Programs: texts that say what is done with a value."""
 
 from textorlist.errors import BadProgram, BadSpot, TooMany
-from textorlist.lines import FUNCTION, TAKER
-from textorlist.reading import read_program
-from textorlist.tokens import written
+from textorlist.lines import TAKER
+from textorlist.reading import read_rows
+from textorlist.tokens import MARKED, is_name, rows_of
 from textorlist.values import is_whole_number
 
 
 def text_of(rows):
     """The text of a program from the spaces and tokens of its lines."""
     return "\n".join([" " * spaces + " ".join(tokens) for spaces, tokens in rows])
+
+
+def plain_places(tokens):
+    """A list of the indexes in a line at which the variable of a plain spot stands."""
+    if tokens[0] in ("for", "if"):
+        return [at for at in range(1, len(tokens)) if tokens[at - 1] in ("in", "len") and is_name(tokens[at])]
+    return [at for at in range(1, len(tokens)) if is_name(tokens[at])][-1:]
 
 
 class Program:
@@ -22,27 +29,26 @@ class Program:
     def __init__(self, text):
         if not isinstance(text, str):
             raise BadProgram(-1)
-        reading = read_program(text)
-        if len(reading.named(FUNCTION)) > Program.FUNCTIONS:
+        self._rows = rows_of(text)
+        reading = read_rows(self._rows)
+        self._openers = {line.name: line for line in reading.lines if line.deed == "def"}
+        if len(self._openers) > Program.FUNCTIONS:
             raise TooMany("functions")
         if len(reading.found) > Program.SPOTS:
             raise TooMany("spots")
         self.lines = tuple(reading.lines)
-        self.main = reading.named(FUNCTION)[-1]
-        self._openers = {line.name: line for line in reading.lines if line.deed == "def"}
-        self._takers = sorted(reading.named(TAKER))
-        self._rows = reading.rows
+        self.main = list(self._openers)[-1]
+        self._meanings = reading.meanings
         self._spots = reading.found
-        self._text = text_of(reading.rows)
 
     def __len__(self):
         return len(self.lines)
 
     def __str__(self):
-        return str(self._text)
+        return str(text_of(self._rows))
 
     def __eq__(self, other):
-        return isinstance(other, Program) and self._text == other._text
+        return isinstance(other, Program) and self._rows == other._rows
 
     def names(self):
         """A list of the functions in the order of the text."""
@@ -50,11 +56,11 @@ class Program:
 
     def takers(self):
         """A list of the takers in ascending order."""
-        return list(self._takers)
+        return sorted([name for name in self._meanings if self._meanings[name] == TAKER])
 
     def spots(self):
         """A list with the line and the form of each spot."""
-        return [(line, form) for line, _, _, form in self._spots]
+        return list(self._spots)
 
     def opener_of(self, name):
         """The line that begins a function."""
@@ -62,7 +68,13 @@ class Program:
 
     def is_plain_spot(self, spot):
         """Whether any value is the number of a plain spot."""
-        return is_whole_number(spot) and 0 <= spot < len(self._spots) and self._spots[spot][3] == "plain"
+        return is_whole_number(spot) and 0 <= spot < len(self._spots) and self._spots[spot][1] == "plain"
+
+    def place_of(self, spot):
+        """The line of a plain spot, and the index of its variable there."""
+        line = self._spots[spot][0]
+        ahead = [at for at in range(spot) if self._spots[at] == (line, "plain")]
+        return line, plain_places(self._rows[line][1])[len(ahead)]
 
     def marked(self, mend):
         """The program with the marks of a mend."""
@@ -70,9 +82,9 @@ class Program:
             if not self.is_plain_spot(spot):
                 raise BadSpot(spot)
         rows = [(spaces, list(tokens)) for spaces, tokens in self._rows]
-        # From the last spot to the first one, so that the places of those to come stay.
-        for spot, mark in sorted(mend)[::-1]:
-            line, begin, end, _ = self._spots[spot]
-            tokens = rows[line][1]
-            tokens[begin:end] = written(mark, tokens[begin])
+        for spot, mark in mend:
+            line, at = self.place_of(spot)
+            ahead, behind = MARKED[mark]
+            # One token stays one, so that the indexes of the others stay, too.
+            rows[line][1][at] = ahead + rows[line][1][at] + behind
         return Program(text_of(rows))

@@ -1,8 +1,7 @@
 """Reading: from the text of a program to its lines."""
 
 from textorlist.errors import BadProgram
-from textorlist.lines import FUNCTION, OPENERS, TAKER, VARIABLE, read_def, read_inner
-from textorlist.tokens import Reader, tokens_of
+from textorlist.lines import FUNCTION, OPENERS, TAKER, VARIABLE, asked_forms, read_def, read_inner
 
 
 class Block:
@@ -27,15 +26,12 @@ def block_of(line, around):
 class Reading:
     """What is known of a program behind some of its lines.
 
-    `rows` has the spaces and the tokens of each line, `meanings` the meaning of
-    each name, `found` a tuple for each spot: its line, the indexes of the tokens
-    where it begins and ends, and its form. The first one of the open `blocks` is
-    what is outside of all functions.
+    `meanings` has the meaning of each name, `found` the line and the form of each
+    spot. The first one of the open `blocks` is what is outside of all functions.
     """
 
     def __init__(self):
         self.lines = []
-        self.rows = []
         self.meanings = {}
         self.found = []
         self.blocks = [Block(None, None, None, False)]
@@ -44,69 +40,68 @@ class Reading:
         """Whether each block that has begun has a line."""
         return self.lines[-1].deed not in OPENERS
 
-    def may_stand(self, depth):
-        """Whether a line in so many blocks may come next."""
-        inmost = len(self.blocks) - 1
-        return depth == inmost or (depth < inmost and self.is_whole())
+    def may_stand(self, spaces):
+        """Whether a line behind so many spaces may come next."""
+        inmost = 2 * len(self.blocks) - 2
+        return spaces == inmost or (spaces < inmost and spaces & 1 == 0 and self.is_whole())
 
     def accepts(self, spaces, tokens):
         """Takes up the next line if it is right; whether it is."""
+        if not tokens or not self.may_stand(spaces):
+            return False
         depth = spaces // 2
-        if not tokens or spaces != 2 * depth or not self.may_stand(depth):
-            return False
         around = self.blocks[depth]
-        reader = Reader(tokens, around.variable)
-        line = read_inner(reader, around, self.meanings) if depth else read_def(reader, self.meanings)
-        choice = self.ended_choice(depth)
-        if line is None or not reader.ended() or (line.deed == "else" and choice is None):
+        line = read_inner(tokens, around, self.meanings) if depth else read_def(tokens, self.meanings)
+        if line is None or (line.deed == "else" and not self.ends_choice(depth)):
             return False
-        self.close(depth)
-        if line.deed == "else":
-            choice.otherwise = len(self.lines) + 1
-        self.put(line, around, reader)
-        self.rows.append((spaces, tokens))
+        if depth < len(self.blocks) - 1:
+            self.close(depth, line.deed == "else")
+        self.put(line, around)
         return True
 
-    def ended_choice(self, depth):
-        """The line of the `if` whose block a next line in so many blocks is directly behind, or None."""
-        ended = self.blocks[depth + 1:]
-        return ended[0].line if ended and ended[0].line.deed == "if" else None
+    def ends_choice(self, depth):
+        """Whether the next line, in so many blocks, is directly behind the block of an `if` in these."""
+        return depth < len(self.blocks) - 1 and self.blocks[depth + 1].line.deed == "if"
 
-    def close(self, depth):
-        """Ends the blocks that a next line in so many blocks is outside of."""
-        for line in [block.line for block in self.blocks[depth + 1:]]:
-            line.after = len(self.lines)
-            line.otherwise = line.after
+    def close(self, depth, chosen):
+        """Ends the blocks that a next line is outside of; chosen says that this is the `else` of the first of them."""
+        behind = len(self.lines)
+        for block in self.blocks[depth + 1:]:
+            block.line.after = behind
+            block.line.otherwise = behind
+        if chosen:
+            self.blocks[depth + 1].line.otherwise = behind + 1
         self.blocks = self.blocks[:depth + 1]
 
-    def put(self, line, around, reader):
+    def put(self, line, around):
         """Puts a line behind the others, and keeps what it says of names and spots."""
-        line.number = len(self.lines)
-        line.after = line.number + 1
+        number = len(self.lines)
+        line.number = number
+        line.after = number + 1
         self.lines.append(line)
+        if line.deed == "give":
+            self.meanings[line.name] = TAKER
+        for form in asked_forms(line, around.own):
+            self.found.append((number, form))
+        if line.deed in OPENERS:
+            self.begin(line, around)
+
+    def begin(self, line, around):
+        """Goes on in the block that a line begins."""
         if line.variable is not None:
             self.meanings[line.variable] = VARIABLE
         if line.deed == "def":
             self.meanings[line.name] = FUNCTION
-        if line.deed == "give":
-            self.meanings[line.name] = TAKER
-        self.found.extend([(line.number, begin, end, form) for begin, end, form in reader.found])
-        if line.deed in OPENERS:
-            self.blocks.append(block_of(line, around))
-
-    def named(self, meaning):
-        """A list of the names with a meaning, in the order of the text."""
-        return [name for name in self.meanings if self.meanings[name] == meaning]
+        self.blocks.append(block_of(line, around))
 
 
-def read_program(text):
-    """The reading of a whole program."""
+def read_rows(rows):
+    """The reading of a whole program, given by the spaces and tokens of its lines."""
     reading = Reading()
-    lines = text.split("\n")
-    for number, line in enumerate(lines):
-        if not reading.accepts(len(line) - len(line.lstrip(" ")), tokens_of(line)):
+    for number, (spaces, tokens) in enumerate(rows):
+        if not reading.accepts(spaces, tokens):
             raise BadProgram(number)
     if not reading.is_whole():
-        raise BadProgram(len(lines))
-    reading.close(0)
+        raise BadProgram(len(rows))
+    reading.close(0, False)
     return reading

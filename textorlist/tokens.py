@@ -1,107 +1,58 @@
-"""Tokens: what the lines of programs consist of, and a reader that goes through them."""
+"""Tokens: what the lines of programs consist of, and the shapes of lines.
 
-from textorlist.values import ALPHABET
+The shape of a row of tokens is a string with a blank ahead of each token and
+behind the last one, in which a letter stands for each E with the variable of the
+block: V, W, M and S for `V`, `[V]`, `many(V)` and `some(V)`. No token has such
+letters. So all that may stand behind a word can be looked up at once.
+"""
 
-DIGITS = "0123456789"
-LONG_SIGNS = ("+=", "!=", "<=", ">=")
-NUMBERS = ("0", "1", "2", "3")
-WORD_LETTERS = 8
-KEPT_WORDS = (
-    "def", "for", "in", "if", "else", "and", "or", "not", "text", "list", "nothing", "len", "key", "many", "some",
-    "join", "skip", "break", "return", "refuse",
-)
-
-# How an E is written: for each form the tokens ahead of its variable, and those behind it.
-FORMS = {
-    "plain": ((), ()),
-    "wrap": (("[",), ("]",)),
-    "many": (("many", "("), (")",)),
-    "some": (("some", "("), (")",)),
+# The characters of programs; `!` is a token only together with another sign.
+KNOWN = "abcdefghijklmnopqrstuvwxyz0123456789()[]:.*+-=<>! \n"
+NAME_LETTERS = 8
+KEPT_WORDS = {
+    "def": True, "for": True, "in": True, "if": True, "else": True, "and": True, "or": True, "not": True, "text": True,
+    "list": True, "nothing": True, "len": True, "key": True, "many": True, "some": True, "join": True, "skip": True,
+    "break": True, "return": True, "refuse": True,
 }
 
+# The form of the E that a letter of a shape stands for.
+FORMS = {"V": "plain", "W": "wrap", "M": "many", "S": "some"}
 
-def row_at(line, at, characters):
-    """The longest row of such characters that begins at an index."""
-    rest = line[at:]
-    return rest[:len(rest) - len(rest.lstrip(characters))]
-
-
-def token_at(line, at):
-    """The token that begins at an index; also a space, which is none."""
-    word = row_at(line, at, ALPHABET) or row_at(line, at, DIGITS)
-    if word:
-        return word
-    if line[at:at + 2] in LONG_SIGNS:
-        return line[at:at + 2]
-    return line[at]
+# What the marks of a mend put ahead of a variable, and behind it.
+MARKED = {"many": ("many ( ", " )"), "wrap": ("[ ", " ]")}
 
 
-def tokens_of(line):
-    """A list of the tokens of a line."""
-    tokens = []
-    at = 0
-    while at < len(line):
-        token = token_at(line, at)
-        at = at + len(token)
-        if token != " ":
-            tokens.append(token)
-    return tokens
+def cleaned(text):
+    """The text without blanks other than spaces, and without letters other than a to z; `~` stands for them."""
+    if text.isascii() and text.islower() and text.replace("\n", " ").isprintable():
+        return text
+    return "".join([letter if letter in KNOWN else "~" for letter in text])
+
+
+def spread(text):
+    """The text with blanks around each token that is no word.
+
+    A digit counts as a number of its own: no line has two side by side.
+    """
+    text = text.replace("(", " ( ").replace(")", " ) ").replace("[", " [ ").replace("]", " ] ").replace(":", " : ")
+    text = text.replace(".", " . ").replace("*", " * ").replace("+", " + ").replace("-", " - ").replace("=", " = ")
+    text = text.replace("0", " 0 ").replace("1", " 1 ").replace("2", " 2 ").replace("3", " 3 ")
+    text = text.replace("<", " < ").replace(">", " > ").replace("!", " ! ")
+    # Two blanks stand only where nothing stood between the signs.
+    return text.replace(" +  = ", " += ").replace(" !  = ", " != ").replace(" <  = ", " <= ").replace(" >  = ", " >= ")
+
+
+def rows_of(text):
+    """A list with the number of spaces ahead of each line, and a list of its tokens."""
+    return [(len(line) - len(line.lstrip(" ")), line.split()) for line in spread(cleaned(text)).split("\n")]
 
 
 def is_name(token):
     """Whether a token can be the name of a function, a variable or a taker."""
-    return not token.strip(ALPHABET) and len(token) <= WORD_LETTERS and token not in KEPT_WORDS
+    return token.isalpha() and len(token) <= NAME_LETTERS and token not in KEPT_WORDS
 
 
-def written(form, variable):
-    """The tokens of an E."""
-    ahead, behind = FORMS[form]
-    return [*ahead, variable, *behind]
-
-
-class Reader:
-    """Goes through the tokens of a line inside of a block with a variable.
-
-    `found` has what was read of E: where it begins, where it ends, its form.
-    """
-
-    def __init__(self, tokens, variable):
-        self.tokens = tokens
-        self.variable = variable
-        self.at = 0
-        self.found = []
-
-    def takes(self, words):
-        """Goes on behind these tokens if they come next; whether they do."""
-        end = self.at + len(words)
-        if self.tokens[self.at:end] != words:
-            return False
-        self.at = end
-        return True
-
-    def taken_from(self, words):
-        """Goes on behind the next token if it is one of the words; the token, or None."""
-        if self.ended() or self.tokens[self.at] not in words:
-            return None
-        self.at = self.at + 1
-        return self.tokens[self.at - 1]
-
-    def taken_name(self):
-        """Goes on behind the next token if it is a name; the name, or None."""
-        if self.ended() or not is_name(self.tokens[self.at]):
-            return None
-        self.at = self.at + 1
-        return self.tokens[self.at - 1]
-
-    def given(self):
-        """Goes on behind an E; its form, or None if none comes next."""
-        begin = self.at
-        for form in FORMS:
-            if self.takes(written(form, self.variable)):
-                self.found.append((begin, self.at, form))
-                return form
-        return None
-
-    def ended(self):
-        """Whether no more tokens come."""
-        return self.at == len(self.tokens)
+def shape_of(tokens, variable):
+    """The shape of a row of tokens inside of a block with a variable."""
+    row = f" {' '.join(tokens)} ".replace(f" {variable} ", " V ")
+    return row.replace(" [ V ] ", " W ").replace(" many ( V ) ", " M ").replace(" some ( V ) ", " S ")

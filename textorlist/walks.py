@@ -20,6 +20,8 @@ def all_parts(thing):
 
 def copy_of(thing):
     """The same with new lists and tuples; a list that stands at two places becomes two lists."""
+    if not isinstance(thing, (list, tuple)):
+        return thing
     done = []
     for part in all_parts(thing)[::-1]:
         made = part
