@@ -26,12 +26,16 @@ def step_above(sign, recipe):
 def step_over_both(sign, one, other):
     """The steps of two recipes, equal ones once, and one more step, made from the last ones of both."""
     steps = list(one)
+    known = {}
+    for number, step in enumerate(one):
+        known[step] = number
     moved = []
     for name, parts, numbers in other:
         step = (name, tuple([moved[part] for part in parts]), numbers)
-        if step not in steps:
+        if step not in known:
+            known[step] = len(steps)
             steps.append(step)
-        moved.append(steps.index(step))
+        moved.append(known[step])
     return (*steps, (sign, (len(one) - 1, moved[-1]), ()))
 
 
