@@ -611,6 +611,24 @@ class PairTables(unittest.TestCase):
             self.assertTrue(all(place is None or place in places_of(value) for value, place in told))
         self.assertGreater(counted, 8)
 
+    def test_places_of_letters_that_are_put_behind(self):
+        for text, making in [
+            ("def f(v):\n  if text v and v:\n    out(v[-1])", ("texts", 2, 2)),
+            ("def f(v):\n  if text v and len v > 2:\n    out(v[-1])\n    log(v[0])", ("nothing",)),
+            ("def f(v):\n  for x in v[1:]:\n    out(x)", ("texts", 2, 1)),
+        ]:
+            program = Program(text)
+            told = table_of_pairs(program, program, plain_shapes.built(making))
+            sign = plain_conducts.remembered(lambda pair: plain_conducts.pair_conduct(text, text, making, *pair, "", False))
+            least = plain_conducts.least_sizes(
+                sign, self.size, plain_conducts.pair_starts, plain_conducts.grown_pairs, "", 70)
+            self.assertEqual({sign(pair): self.size(pair) for pair in told}, least)
+            self.assertEqual(len(told), len(least))
+        program = Program("def f(v):\n  if text v and len v > 2:\n    out(v[-1])")
+        last = [(value, place) for value, place in table_of_pairs(program, QUIET, Shape.texts())
+                if isinstance(value, str) and len(value) > 2 and place == (len(value) - 1,)]
+        self.assertEqual([size_of(value) for value, _ in last], [4])
+
     def test_seventy_conducts_are_not_too_many(self):
         for text, making, key, count in [
             ("def main(y):\n  if key = y:\n    main(y[0])", ("texts", 3, None), "a", 70),

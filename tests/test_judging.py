@@ -71,6 +71,13 @@ class Judge(unittest.TestCase):
         self.assertEqual(len(judge(EXAMPLE, ~Shape.texts(0, 2))), 4)
         self.assertEqual(len(judge(EXAMPLE, Shape.texts(3))), 4)
 
+    def test_letters_in_wraps(self):
+        program = Program("def g(w):\n  if key in w:\n    refuse\n  out(w[0])\ndef f(v):\n  for x in v:\n    g([x])")
+        self.check(program, Shape.texts(2), ["aa", "ab", "ba"], bad=["refuse"], key="a")
+        self.check(program, Shape.texts(2), ["aa", "ab", "ba", "bb"], bad=["slip"], key="a")
+        self.check(program, Shape.lists(Shape.every()), [["a"]], bad=["refuse"], key="a")
+        self.check(program, Shape.lists(Shape.every()), None, bad=["letter", "fail", "slip"], key="a")
+
     def test_shapes_without_values(self):
         for shape in (Shape.never(), Shape.texts(2, 1), Shape.nothing() & Shape.texts(), ~Shape.every()):
             self.check(EXAMPLE, shape, None, bad=KINDS)

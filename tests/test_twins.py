@@ -106,6 +106,11 @@ class Parting(unittest.TestCase):
         self.check("def f(v):\n  if text v:\n    if len v = 2:\n      return\n    if key in v:\n      return", None, key="a")
         self.check("def f(v):\n  if text v:\n    out(v)\n    log(v)\n  else:\n    log(v[0])\n    out(v[0])", None)
 
+    def test_keys_in_wraps(self):
+        self.check("def g(w):\n  if key in w:\n    refuse\ndef f(v):\n  g([v])", ["ab"], key="ab")
+        self.check("def g(w):\n  if key in w:\n    out(w)\n  log(w)\ndef f(v):\n  g(many(v))", None, key="ab")
+        self.check("def g(w):\n  if list w and key in w:\n    out(w)\ndef f(v):\n  for x in many(v):\n    g(x)\n  g(v)", ["ab"], key="ab")
+
     def test_longer_texts(self):
         self.check("def f(v):\n  if text v:\n    if len v = 3:\n      refuse",
                    [text for text in values_up_to("ab", 4) if isinstance(text, str) and len(text) == 3])
