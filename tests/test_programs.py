@@ -510,6 +510,17 @@ class Marks(Case):
                     Program(text).marked([(0, mark)]), Program(f"def g(w):\n  return\ndef f(v):\n  {ahead}{e}{behind}"),
                 )
 
+    def test_several_spots_in_a_line(self):
+        text = "def f(v):\n  if len [v] = 1 and (key in v or not len some(v) > 0 and len v < 3) or key in many(v) and key in v:\n    return"
+        program = Program(text)
+        self.assertEqual(program.spots(), [(1, "wrap"), (1, "plain"), (1, "some"), (1, "plain"), (1, "many"), (1, "plain")])
+        for spot, ahead in ((1, "(key in "), (3, "and len "), (5, "and key in ")):
+            for mark, e in (("many", "many(v)"), ("wrap", "[v]")):
+                self.assertEqual(program.marked([(spot, mark)]), Program(text.replace(f"{ahead}v", f"{ahead}{e}")))
+        for spot in (0, 2, 4, 6):
+            with self.assertRaises(BadSpot):
+                program.marked([(spot, "many")])
+
     def test_longer_than_passed_strings_may_be(self):
         text = "def f(abcdefgh):" + "\n  out(abcdefgh)" * 12 + "\n  return" * 17
         made = Program(text).marked([(spot, "many") for spot in range(12)])

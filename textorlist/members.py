@@ -92,7 +92,8 @@ def longer_plan(plan, recipe):
     """
     if plan is None:
         return None
-    rows, asked = list(plan[0]), list(plan[1])
+    rows = list(plan[0])
+    asked = list(plan[1])
     for step in recipe[len(rows):]:
         inner = step_asked(len(rows), step)
         if inner is not None and inner not in asked:
